@@ -1,0 +1,1 @@
+"""Openshares: who together may open a secret, and with how few numbers."""

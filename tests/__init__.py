@@ -1,0 +1,1 @@
+"""Tests of Openshares, by the numbers of the promises in DOC.md."""
