@@ -19,7 +19,8 @@ class Point18(unittest.TestCase):
     def test_ordinary_families(self):
         for text, turned in [
             ("a: a", "a: a"), ("a b: a", "a b: a"), ("a b: a b", "a b: a / b"), ("a b: a / b", "a b: a b"),
-            ("a b c: a b / a c / b c", "a b c: a b / a c / b c"), ("a b c d: a b / b c / c d", "a b c d: a c / b c / b d"),
+            ("a b c: a b / a c / b c", "a b c: a b / a c / b c"),
+            ("a b c d: a b / b c / c d", "a b c d: a c / b c / b d"),
         ]:
             self.assertEqual(str(read(text).turned()), turned)
 

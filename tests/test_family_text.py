@@ -9,9 +9,10 @@ from tests.checking import ShareTest
 from tests.samples import NAMES, all_families, all_least_groups, some_families
 
 WRONG = [
-    "", " ", "\n", ":", ": ", "a", "a:", "a: ", "a b", " : a", ": a", "a:a", "a : a", "a:  a", "a: a ", " a: a", "a: a\n",
-    "\na: a", "a:\na", "a\n: a", "a\nb: a", "a: a: a", "a: a /", "a: a / ", "a: / a", "a: a / a", "a b: a/b", "a b: a /b",
-    "a b: a/ b", "a b: a  / b", "a b: a /  b", "a b: a // b", "a b: a / / b", "a  b: a", "b a: a", "b a: b a", "a a: a",
+    "", " ", "\n", ":", ": ", "a", "a:", "a: ", "a b", " : a", ": a", "a:a", "a : a", "a:  a", "a: a ", " a: a",
+    "a: a\n", "\na: a", "a:\na", "a\n: a", "a\nb: a", "a: a: a", "a: a /", "a: a / ", "a: / a", "a: a / a", "a b: a/b",
+    "a b: a /b", "a b: a/ b", "a b: a  / b", "a b: a /  b", "a b: a // b", "a b: a / / b", "a  b: a", "b a: a",
+    "b a: b a", "a a: a",
     "a b: b a", "a b: a a", "a b: b / a", "a b: a / b / a b", "a b: a b / a", "a b: a / a b", "a b: a / a / b",
     "a b: c", "a b: a c", "a b c: a b / a", "a b c: a c / a b", "a b c: a b / c", "a b c: a b / b c / a c",
     "a b c: b c / a", "A: A", "1: 1", "abcdefg: a", "a, b: a", "a b: a, b", "a b: (a)", "a b; a", "a b: a | b",
