@@ -3,20 +3,44 @@
 import inspect
 import unittest
 
-from openshares import families, naming
+from openshares import dealing, families, naming, rows, schemes
 from openshares.families import Family
+from openshares.schemes import Scheme
 
 FUNCTIONS = [
     (naming, "valid_name", ["text"]),
     (families, "all_groups", ["persons"]),
     (families, "is_group", ["persons", "value"]),
     (families, "rest", ["persons", "group"]),
+    (rows, "product", ["prime", "one", "other"]),
+    (rows, "combined", ["prime", "factors", "rows"]),
+    (rows, "rank", ["prime", "rows"]),
+    (rows, "factors_for", ["prime", "rows", "goal"]),
+    (rows, "blind_row", ["prime", "rows", "width"]),
+    (rows, "solutions", ["prime", "rows", "values", "width"]),
+    (schemes, "check_factors", ["scheme", "group", "factors"]),
+    (schemes, "check_blind", ["scheme", "group", "row"]),
+    (schemes, "fits", ["scheme", "family"]),
+    (dealing, "deal", ["scheme", "secret", "numbers"]),
+    (dealing, "ways", ["scheme", "shares", "secret"]),
+    (dealing, "fitting", ["scheme", "shares"]),
+    (dealing, "open_shares", ["scheme", "shares"]),
+    (dealing, "agreeing", ["scheme", "shares"]),
+    (dealing, "added", ["scheme", "one", "other"]),
 ]
-METHODS = {
-    "__init__": ["self", "persons", "groups"], "opens": ["self", "group"], "turned": ["self"],
-    "without": ["self", "name"], "published": ["self", "name"], "__or__": ["self", "other"],
-    "__and__": ["self", "other"], "__eq__": ["self", "other"], "__str__": ["self"],
-}
+METHODS = [
+    (Family, {
+        "__init__": ["self", "persons", "groups"], "opens": ["self", "group"], "turned": ["self"],
+        "without": ["self", "name"], "published": ["self", "name"], "__or__": ["self", "other"],
+        "__and__": ["self", "other"], "__eq__": ["self", "other"], "__str__": ["self"],
+    }),
+    (Scheme, {
+        "__init__": ["self", "prime", "width", "rows"], "rows": ["self", "name"], "size": ["self", "name"],
+        "rank": ["self", "group"], "opens": ["self", "group"], "factors": ["self", "group"],
+        "blind": ["self", "group"], "family": ["self"], "restricted": ["self", "names"], "__eq__": ["self", "other"],
+    }),
+]
+PROPERTIES = [(Family, ["persons", "needed", "groups"]), (Scheme, ["prime", "width", "persons"])]
 
 
 class Interface(unittest.TestCase):
@@ -26,10 +50,19 @@ class Interface(unittest.TestCase):
             self.assertEqual(function.__module__, module.__name__)
             self.assertEqual(list(inspect.signature(function).parameters), arguments)
 
-    def test_the_methods_of_family(self):
+    def test_where_the_classes_are_defined(self):
         self.assertEqual(Family.__module__, "openshares.families")
-        for word, arguments in METHODS.items():
-            self.assertEqual(list(inspect.signature(vars(Family)[word]).parameters), arguments)
+        self.assertEqual(Scheme.__module__, "openshares.schemes")
+
+    def test_methods(self):
+        for owner, methods in METHODS:
+            for word, arguments in methods.items():
+                self.assertEqual(list(inspect.signature(vars(owner)[word]).parameters), arguments)
+
+    def test_properties(self):
+        for owner, words in PROPERTIES:
+            for word in words:
+                self.assertIsInstance(vars(owner)[word], property)
 
     def test_the_class_methods_of_family(self):
         for word, arguments in (("threshold", ["persons", "many"]), ("read", ["text"])):
