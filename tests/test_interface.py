@@ -3,8 +3,9 @@
 import inspect
 import unittest
 
-from openshares import dealing, families, naming, rows, schemes
+from openshares import circuits, dealing, families, makers, naming, papers, rows, schemes
 from openshares.families import Family
+from openshares.papers import Paper
 from openshares.schemes import Scheme
 
 FUNCTIONS = [
@@ -27,6 +28,18 @@ FUNCTIONS = [
     (dealing, "open_shares", ["scheme", "shares"]),
     (dealing, "agreeing", ["scheme", "shares"]),
     (dealing, "added", ["scheme", "one", "other"]),
+    (makers, "plain_scheme", ["family", "prime"]),
+    (makers, "threshold_scheme", ["persons", "many", "prime"]),
+    (makers, "turned_scheme", ["scheme"]),
+    (makers, "lean_scheme", ["scheme"]),
+    (circuits, "rounds", ["family"]),
+    (circuits, "circuits", ["family"]),
+    (circuits, "port_gap", ["family"]),
+    (circuits, "is_port", ["family"]),
+    (circuits, "port_rank", ["family", "group"]),
+    (papers, "check_paper", ["family", "paper"]),
+    (papers, "paper_of", ["family"]),
+    (papers, "ranks", ["scheme", "paper"]),
 ]
 METHODS = [
     (Family, {
@@ -39,8 +52,12 @@ METHODS = [
         "rank": ["self", "group"], "opens": ["self", "group"], "factors": ["self", "group"],
         "blind": ["self", "group"], "family": ["self"], "restricted": ["self", "names"], "__eq__": ["self", "other"],
     }),
+    (Paper, {"__init__": ["self", "pair", "chain", "parts"]}),
 ]
-PROPERTIES = [(Family, ["persons", "needed", "groups"]), (Scheme, ["prime", "width", "persons"])]
+PROPERTIES = [
+    (Family, ["persons", "needed", "groups"]), (Scheme, ["prime", "width", "persons"]),
+    (Paper, ["pair", "chain", "parts"]),
+]
 
 
 class Interface(unittest.TestCase):
@@ -53,6 +70,7 @@ class Interface(unittest.TestCase):
     def test_where_the_classes_are_defined(self):
         self.assertEqual(Family.__module__, "openshares.families")
         self.assertEqual(Scheme.__module__, "openshares.schemes")
+        self.assertEqual(Paper.__module__, "openshares.papers")
 
     def test_methods(self):
         for owner, methods in METHODS:
