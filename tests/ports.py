@@ -1,8 +1,9 @@
 """A second, independent reckoning of circuits, ports and papers, by the words of their points."""
 
-from itertools import combinations
+from functools import cache
+from itertools import combinations, product
 
-from tests.samples import opening, subsets
+from tests.samples import NAMES, opening, subsets
 
 
 def least_sets(sets):
@@ -83,3 +84,48 @@ def stepped(family, pair, most):
                 for part in subsets(pair)[1:] if union(group, part) in opens and union(chain[-1], part) not in opens
             ]
     return found
+
+
+def single_openings(prime, many):
+    """The sets of the groups that open in the single schemes over the prime for the first so many persons.
+
+    In terms of a base that begins with the row 1 0 .. 0, each row is one that the rows before it
+    make with that row, or the next one of the base; multiples of a row do as well as the row.
+    """
+    persons = NAMES[:many]
+    found = set()
+    waiting = [((), 1)]
+    while waiting:
+        rows, size = waiting.pop()
+        if len(rows) < many:
+            waiting += [(rows + (row,), size) for row in [None, *directions(prime, size)]]
+            waiting.append((rows + ((0,) * size + (1,),), size + 1))
+        else:
+            found.add(frozenset(
+                group for group in subsets(persons)
+                if makes_goal(prime, frozenset(rows[persons.index(name)] for name in group))
+            ))
+    return found
+
+
+@cache
+def directions(prime, size):
+    """The rows of this width whose first number other than 0 is 1."""
+    rows = product(range(prime), repeat=size)
+    return [row for row in rows if next((number for number in row if number), 0) == 1]
+
+
+@cache
+def makes_goal(prime, rows):
+    """Tell whether the rows, padded with zeros to one width, add up to 1 0 .. 0 if each is multiplied by a factor."""
+    width = max([len(row) for row in rows if row is not None], default=1)
+    left = [list(row) + [0] * (width - len(row)) for row in rows if row is not None]
+    for at in range(1, width):
+        leads = [row for row in left if row[at]]
+        if leads:
+            lead = leads[0]
+            left = [
+                [(x * lead[at] - y * row[at]) % prime for x, y in zip(row, lead)] for row in left if row is not lead
+            ]
+    # Now all numbers are 0 but the first ones.
+    return any(row[0] for row in left)

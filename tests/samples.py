@@ -62,3 +62,17 @@ def least(groups):
     """The tuple of the groups that contain no other, in order."""
     kept = [group for group in groups if not any(set(other) < set(group) for other in groups)]
     return tuple(sorted(set(kept), key=lambda group: (len(group), group)))
+
+
+def put_opening(family, name, other):
+    """The set of the groups that open in put(family, name, other), by the words of point 55."""
+    kept = [own for own in family.persons if own != name]
+    one, two = opening(family), opening(other)
+    found = set()
+    for group in subsets(kept + list(other.persons)):
+        own = {member for member in group if member in kept}
+        if tuple(member for member in group if member in other.persons) in two:
+            own.add(name)
+        if tuple(sorted(own)) in one:
+            found.add(group)
+    return found

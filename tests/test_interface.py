@@ -3,10 +3,12 @@
 import inspect
 import unittest
 
-from openshares import circuits, dealing, families, makers, naming, papers, rows, schemes
+from openshares import circuits, dealing, families, joining, makers, naming, papers, rows, schemes, single, verdicts
+from openshares.books import Book
 from openshares.families import Family
 from openshares.papers import Paper
 from openshares.schemes import Scheme
+from openshares.verdicts import Verdict
 
 FUNCTIONS = [
     (naming, "valid_name", ["text"]),
@@ -40,6 +42,17 @@ FUNCTIONS = [
     (papers, "check_paper", ["family", "paper"]),
     (papers, "paper_of", ["family"]),
     (papers, "ranks", ["scheme", "paper"]),
+    (single, "is_single", ["scheme"]),
+    (single, "least_prime", ["family"]),
+    (single, "one_each", ["family"]),
+    (joining, "put", ["family", "name", "other"]),
+    (joining, "put_scheme", ["scheme", "name", "other"]),
+    (joining, "either", ["one", "other"]),
+    (joining, "both", ["one", "other"]),
+    (joining, "left_out", ["scheme", "name"]),
+    (joining, "published_scheme", ["scheme", "name"]),
+    (verdicts, "judge", ["family"]),
+    (verdicts, "check_verdict", ["family", "verdict"]),
 ]
 METHODS = [
     (Family, {
@@ -53,10 +66,17 @@ METHODS = [
         "blind": ["self", "group"], "family": ["self"], "restricted": ["self", "names"], "__eq__": ["self", "other"],
     }),
     (Paper, {"__init__": ["self", "pair", "chain", "parts"]}),
+    (Verdict, {"__init__": ["self", "kind", "paper"]}),
+    (Book, {
+        "__init__": ["self", "family"], "family": ["self"], "verdict": ["self"], "tried": ["self", "changes"],
+        "put_group": ["self", "group"], "drop_group": ["self", "group"], "put_person": ["self", "name"],
+        "drop_person": ["self", "name"], "publish": ["self", "name"], "put": ["self", "name", "other"],
+        "turn": ["self"], "undo": ["self"], "history": ["self"], "__len__": ["self"],
+    }),
 ]
 PROPERTIES = [
     (Family, ["persons", "needed", "groups"]), (Scheme, ["prime", "width", "persons"]),
-    (Paper, ["pair", "chain", "parts"]),
+    (Paper, ["pair", "chain", "parts"]), (Verdict, ["kind", "paper"]),
 ]
 
 
@@ -71,6 +91,9 @@ class Interface(unittest.TestCase):
         self.assertEqual(Family.__module__, "openshares.families")
         self.assertEqual(Scheme.__module__, "openshares.schemes")
         self.assertEqual(Paper.__module__, "openshares.papers")
+        self.assertEqual(Verdict.__module__, "openshares.verdicts")
+        self.assertEqual(Book.__module__, "openshares.books")
+        self.assertIn("__contains__", vars(Book))
 
     def test_methods(self):
         for owner, methods in METHODS:
